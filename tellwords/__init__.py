@@ -1,0 +1,1 @@
+"""Tellwords: words that the other words of a book tell."""

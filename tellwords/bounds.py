@@ -1,0 +1,11 @@
+"""The bounds of the program."""
+
+MAX_KINDS = 3
+MAX_LETTERS = 2
+MAX_SIGNS = 40
+MAX_THINGS = 12
+MAX_RULES = 6
+MAX_SHORT = 5
+MAX_COUNTED = 60
+MAX_UNWOUND = 2000
+MAX_EDITS = 40

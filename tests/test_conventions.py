@@ -1,0 +1,155 @@
+"""Point 2: the conventions, for all functions that there are."""
+
+import copy
+import unittest
+
+from tellwords import formulas, worlds
+from tests.helpers import ODD_VALUES, deep, soon
+
+W = (("p",), (("A",), (), ("A", "B")))
+
+# Each function with arguments by name and what it returns for them.
+CALLS = (
+    (formulas.words_of, {"kinds": 2, "letters": 1}, ("A", "B", "p")),
+    (formulas.formula_error, {"kinds": 1, "letters": 0, "value": "B"}, "formula"),
+    (formulas.formula_error, {"kinds": 2, "letters": 0, "value": ("not", "B")}, None),
+    (formulas.signs, {"formula": ("and", "A", ("not", "p"))}, 4),
+    (formulas.is_sentence, {"formula": ("not", "p")}, True),
+    (formulas.is_sentence, {"formula": ("not", "A")}, False),
+    (formulas.words_in, {"formula": ("and", "q", "A", "A")}, ("A", "q")),
+    (formulas.replaced, {"formula": ("and", "A", "B"), "word": "A", "other": ("or", "B")},
+     ("and", ("or", "B"), "B")),
+    (worlds.is_world, {"kinds": 2, "letters": 1, "value": W}, True),
+    (worlds.is_world, {"kinds": 1, "letters": 1, "value": W}, False),
+    (worlds.holds, {"world": W, "sentence": ("some", "B")}, True),
+    (worlds.holds, {"world": W, "sentence": ("all", "B")}, False),
+    (worlds.holds_of, {"world": W, "formula": "A"}, (0, 2)),
+    (worlds.seen, {"world": W, "tellers": ("A",)}, ((), (("A",), (), ("A",)))),
+    (worlds.frame_of, {"world": W}, (("p",), ((), ("A",), ("A", "B")))),
+)
+
+
+def nested(depth, within, value):
+    """The value within so many lists, tuples or dicts."""
+    for _ in range(depth):
+        value = within(value)
+    return value
+
+
+def large_values():
+    """Values at the edges of what an argument called value may be."""
+    for within in (lambda value: [value], lambda value: (value,), lambda value: {"A": value},
+                   lambda value: ("and", [value]), lambda value: ("and", "A", {1: value}),
+                   lambda value: ((), value), lambda value: (value, ((),))):
+        yield nested(29, within, None)
+    yield [None] * 9999
+    yield ("and", *[[]] * 9998)
+    yield ("and", *["A"] * 9997, "D")
+    yield ((), ((),) * 9990)
+    yield (("p",) * 9990, ((),))
+    yield ((), (("A",) * 9990,))
+    yield ["x" * 4000] * 100
+    yield "\n" * 4000
+    yield -(10 ** 40 - 1)
+
+
+class TestKindsOfValues(unittest.TestCase):
+    def check_plain(self, value):
+        self.assertIn(type(value), (tuple, int, str, bool, type(None)))
+        if isinstance(value, tuple):
+            for item in value:
+                self.check_plain(item)
+
+    def test_by_position_and_by_name(self):
+        for function, arguments, expected in CALLS:
+            with self.subTest(function.__name__, arguments=arguments):
+                for result in (function(**arguments), function(*arguments.values())):
+                    self.assertEqual(result, expected)
+                    self.assertIs(type(result), type(expected))
+                    self.check_plain(result)
+
+    def test_equal_calls_return_equal_results(self):
+        for _ in range(3):
+            for function, arguments, expected in CALLS:
+                self.assertEqual(function(**copy.deepcopy(arguments)), expected)
+
+    def test_true_and_false_are_no_words_and_no_worlds(self):
+        for value in (True, False, 0, 1):
+            for within in (value, (value,), ("and", value), (value, "A"), ("not", value)):
+                self.assertEqual(formulas.formula_error(3, 2, within), "formula")
+            for within in (value, ((), value), (value, ((),)), ((), (value,)), ((), ((value,),)),
+                           ((value,), ((),))):
+                self.assertIs(worlds.is_world(3, 2, within), False)
+
+    def test_ascending_is_the_order_of_python(self):
+        sorts = ((), ("A",), ("A", "B"), ("A", "B", "C"), ("A", "C"), ("B",), ("B", "C"), ("C",))
+        self.assertEqual(sorts, tuple(sorted(sorts)))
+        self.assertEqual(worlds.frame_of(((), sorts[::-1])), ((), sorts))
+        self.assertEqual(formulas.words_of(3, 2), tuple(sorted("qpCBA")))
+
+
+class TestAnyValue(unittest.TestCase):
+    def test_odd_and_large_values(self):
+        for value in (*ODD_VALUES, *large_values()):
+            with soon():
+                self.assertEqual(formulas.formula_error(3, 2, value), "formula")
+                self.assertIs(worlds.is_world(3, 2, value), False)
+
+    def test_formulas_with_sixty_signs_however_deep(self):
+        for value in (deep(["not"] * 59, "A"), deep(["some", "all", "and"] * 19, ("or", "A", "p"))):
+            self.assertEqual(formulas.signs(value), 60)
+            self.assertEqual(formulas.formula_error(3, 2, value), "signs")
+            self.assertIs(worlds.is_world(3, 2, value), False)
+            self.assertIs(worlds.is_world(3, 2, ((), (value,))), False)
+
+    def test_results_with_parts_replaced(self):
+        for odd in ODD_VALUES:
+            result = formulas.replaced(("and", "A", deep(["some"] * 150, "B")), "A", deep(["not"] * 40, "A"))
+            self.assertEqual(formulas.formula_error(3, 2, result), "signs")
+            self.assertEqual(formulas.formula_error(3, 2, (*result, odd)), "formula")
+            self.assertEqual(formulas.formula_error(3, 2, list(result)), "formula")
+            yes, things = worlds.seen(W, ("A", "B", "p"))
+            self.assertIs(worlds.is_world(2, 1, (yes, things)), True)
+            self.assertIs(worlds.is_world(2, 1, (yes, list(things))), False)
+            self.assertIs(worlds.is_world(2, 1, (yes, things, odd)), False)
+            self.assertIs(worlds.is_world(2, 1, ((*yes, odd), things)), False)
+            self.assertIs(worlds.is_world(2, 1, (yes, (*things, (*things[2], odd)))), False)
+
+    def test_nothing_that_is_passed_is_changed(self):
+        for value in (*ODD_VALUES, ("and", ["A", ["B"]], {"A": ["B"]}), [["and", "A"], {"p": []}],
+                      ([], [[], ["A"]]), (["q", "p"], ((), ["B", "A"]))):
+            before = copy.deepcopy(value)
+            formulas.formula_error(3, 2, value)
+            worlds.is_world(3, 2, value)
+            self.assertEqual(value, before)
+
+    def test_nothing_that_is_returned_changes_later(self):
+        results = [function(**arguments) for function, arguments, _ in CALLS]
+        before = copy.deepcopy(results)
+        for function, arguments, _ in CALLS:
+            function(**arguments)
+        formulas.replaced(results[7], "B", ("not", "B"))
+        worlds.seen(results[13], ())
+        self.assertEqual(results, before)
+
+
+class TestSomewhatBeyond(unittest.TestCase):
+    def test_more_things_than_are_allowed(self):
+        world = (("p",), (("A",), ()) * 20)
+        self.assertEqual(worlds.holds_of(world, "A"), tuple(range(0, 40, 2)))
+        self.assertIs(worlds.holds(world, ("all", "A")), False)
+        self.assertEqual(worlds.frame_of(world), (("p",), ((), ("A",))))
+        self.assertEqual(worlds.seen(world, ("p",)), (("p",), ((),) * 40))
+
+    def test_deeper_and_longer_formulas(self):
+        formula = ("and", deep(["not"] * 300, "A"), *[("some", "B")] * 4000)
+        with soon():
+            self.assertEqual(formulas.signs(formula), 8302)
+            self.assertIs(formulas.is_sentence(formula), False)
+            self.assertEqual(formulas.words_in(formula), ("A", "B"))
+            self.assertEqual(worlds.holds_of(W, formula), (0, 2))
+            self.assertEqual(formulas.signs(formulas.replaced(formula, "A", "B")), 8302)
+
+
+if __name__ == "__main__":
+    unittest.main()
