@@ -69,16 +69,25 @@ def marks(yes, sorts, formula):
             return sum([1 << at for at, sort in enumerate(sorts) if word in sort])
         return every if word in yes else 0
 
-    def of_parts(head, parts):
-        if head == "not":
-            return every - parts[0]
-        if head == "some":
-            return every if parts[0] != 0 else 0
-        if head == "all":
-            return every if parts[0] == every else 0
-        return all_of(every, parts) if head == "and" else any_of(parts)
+    def spread(held):
+        return every if held != 0 else 0
 
-    return folded(formula, of_word, of_parts)
+    return folded(formula, of_word, lambda head, parts: joined(head, every, parts, spread))
+
+
+def joined(head, every, parts, spread):
+    """The marks of a formula with this first item, by those of its parts.
+
+    Marks are integers whose bits stand for sorts in frames, every having all
+    the bits; spread(marks) has all bits of the frames of which marks have one.
+    """
+    if head == "not":
+        return every - parts[0]
+    if head == "some":
+        return spread(parts[0])
+    if head == "all":
+        return every - spread(every - parts[0])
+    return all_of(every, parts) if head == "and" else any_of(parts)
 
 
 def all_of(every, parts):

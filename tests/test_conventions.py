@@ -3,10 +3,16 @@
 import copy
 import unittest
 
-from tellwords import formulas, worlds
-from tests.helpers import ODD_VALUES, deep, soon
+from tellwords import books, formulas, lots, short, telling, worlds
+from tests.helpers import ODD_VALUES, deep, iff, soon
 
 W = (("p",), (("A",), (), ("A", "B")))
+
+# A book, a pair of its worlds, and what a call of a function that looks at it is passed.
+BOOK = (2, 1, (("all", ("or", ("not", "A"), "B")), iff("p", ("some", "B"))))
+PAIR = (("p",), (("A", "B"),)), (("p",), (("B",),))
+TOLD = {"book": BOOK, "word": "p", "tellers": ("A", "B")}
+NOT_TOLD = {"book": BOOK, "word": "A", "tellers": ("B", "p")}
 
 # Each function with arguments by name and what it returns for them.
 CALLS = (
@@ -26,6 +32,49 @@ CALLS = (
     (worlds.holds_of, {"world": W, "formula": "A"}, (0, 2)),
     (worlds.seen, {"world": W, "tellers": ("A",)}, ((), (("A",), (), ("A",)))),
     (worlds.frame_of, {"world": W}, (("p",), ((), ("A",), ("A", "B")))),
+    (books.book_error, {"value": BOOK}, None),
+    (books.book_error, {"value": (2, 1, ("p", "A"))}, (1, "sentence")),
+    (books.keeps, {"book": BOOK, "value": PAIR[0]}, True),
+    (books.keeps, {"book": BOOK, "value": W}, False),
+    (books.frames, {"book": (1, 1, (iff("p", ("all", "A")),))},
+     (((), ((),)), ((), ((), ("A",))), (("p",), (("A",),)))),
+    (books.follows, {"book": BOOK, "sentence": ("or", "p", ("not", ("some", "A")))}, True),
+    (books.follows, {"book": BOOK, "sentence": ("some", "B")}, False),
+    (books.against, {"book": BOOK, "sentence": ("or", "p", ("not", ("some", "A")))}, None),
+    (books.against, {"book": (1, 1, (("all", "A"),)), "sentence": ("not", "p")}, (("p",), (("A",),))),
+    (books.alike, {"book": BOOK, "one": ("and", "A", "B"), "other": "A"}, True),
+    (books.alike, {"book": BOOK, "one": "A", "other": "p"}, False),
+    (books.parting, {"book": BOOK, "one": ("and", "A", "B"), "other": "A"}, None),
+    (books.parting, {"book": (1, 0, (("all", "A"),)), "one": "A", "other": ("or",)}, (((), (("A",),)), 0)),
+    (telling.told, TOLD, True),
+    (telling.told, NOT_TOLD, False),
+    (telling.written, NOT_TOLD, None),
+    (telling.is_written, {**TOLD, "value": ("some", "B")}, True),
+    (telling.is_written, {**TOLD, "value": ("some", "A")}, False),
+    (telling.pair, TOLD, None),
+    (telling.is_pair, {**NOT_TOLD, "value": PAIR}, True),
+    (telling.is_pair, {**TOLD, "value": PAIR}, False),
+    (lots.least_tellers, {"book": BOOK, "word": "p"}, (("B",),)),
+    (lots.least_tellers, {"book": BOOK, "word": "A"}, ()),
+    (lots.least_lots, {"book": BOOK}, (("A", "B"),)),
+    (lots.loose, {"book": BOOK}, ("A", "B")),
+    (lots.free_words, {"book": (2, 1, BOOK[2][1:])}, ("A",)),
+    (lots.reasons, TOLD, ((1,),)),
+    (lots.reasons, NOT_TOLD, ()),
+    (lots.fewest_dropped, TOLD, (1,)),
+    (short.fewest_signs, TOLD, 2),
+    (short.fewest_signs, NOT_TOLD, None),
+    (short.short, TOLD, ("some", "B")),
+    (short.short, NOT_TOLD, None),
+)
+
+# Calls for which any fitting result is right.
+ANY_CALLS = (
+    (telling.written, TOLD),
+    (telling.pair, NOT_TOLD),
+    (books.against, {"book": BOOK, "sentence": ("some", "B")}),
+    (books.parting, {"book": BOOK, "one": "A", "other": "p"}),
+    (short.short, {"book": (2, 0, (iff("A", ("not", "B")),)), "word": "A", "tellers": ("B",)}),
 )
 
 
@@ -63,15 +112,29 @@ class TestKindsOfValues(unittest.TestCase):
     def test_by_position_and_by_name(self):
         for function, arguments, expected in CALLS:
             with self.subTest(function.__name__, arguments=arguments):
-                for result in (function(**arguments), function(*arguments.values())):
+                turned = dict(reversed(arguments.items()))
+                for result in (function(**arguments), function(*arguments.values()), function(**turned)):
                     self.assertEqual(result, expected)
                     self.assertIs(type(result), type(expected))
                     self.check_plain(result)
 
+    def test_any_fitting_result_is_plain(self):
+        for function, arguments in ANY_CALLS:
+            with self.subTest(function.__name__, arguments=arguments):
+                turned = dict(reversed(arguments.items()))
+                result = function(*arguments.values())
+                self.check_plain(result)
+                self.assertIsInstance(result, (tuple, str))
+                self.assertEqual(function(**arguments), result)
+                self.assertEqual(function(**turned), result)
+
     def test_equal_calls_return_equal_results(self):
+        firsts = [function(**arguments) for function, arguments in ANY_CALLS]
         for _ in range(3):
             for function, arguments, expected in CALLS:
                 self.assertEqual(function(**copy.deepcopy(arguments)), expected)
+            for (function, arguments), first in zip(ANY_CALLS, firsts):
+                self.assertEqual(function(**copy.deepcopy(arguments)), first)
 
     def test_true_and_false_are_no_words_and_no_worlds(self):
         for value in (True, False, 0, 1):
@@ -94,6 +157,33 @@ class TestAnyValue(unittest.TestCase):
             with soon():
                 self.assertEqual(formulas.formula_error(3, 2, value), "formula")
                 self.assertIs(worlds.is_world(3, 2, value), False)
+                self.assertIsNotNone(books.book_error(value))
+                self.assertIs(books.keeps(BOOK, value), False)
+                self.assertIs(telling.is_written(**TOLD, value=value), False)
+                self.assertIs(telling.is_pair(**NOT_TOLD, value=value), False)
+
+    def test_odd_and_large_values_within_others(self):
+        for value in (*ODD_VALUES, *large_values()):
+            with soon():
+                if not (type(value) is int and value in (0, 1)):
+                    self.assertEqual(books.book_error((2, value, ())), (None, "letters"))
+                self.assertEqual(books.book_error((2, 1, (value,))), (0, "formula"))
+                if value != ("A", "B"):
+                    self.assertIs(books.keeps(BOOK, (("p",), (("B",), value))), value == ())
+                self.assertIs(telling.is_written(**TOLD, value=("or", ("some", "B"), value)), False)
+                self.assertIs(telling.is_pair(**NOT_TOLD, value=(PAIR[0], value)), False)
+                self.assertIs(telling.is_pair(**NOT_TOLD, value=(*PAIR, value)), False)
+
+    def test_books_and_formulas_with_sixty_signs_as_any_values(self):
+        long = ("and", *["p"] * 59)
+        for rule, error in ((long, "signs"), (deep(["some", "not"] * 29, ("or", "A")), "signs"),
+                            (deep(["all"] * 59, "C"), "formula")):
+            book = (2, 1, ("p", rule))
+            self.assertEqual(books.book_error(book), (1, error))
+            for value in (book, rule):
+                self.assertIs(books.keeps(BOOK, value), False)
+                self.assertIs(telling.is_pair(**NOT_TOLD, value=value), False)
+                self.assertIs(telling.is_written(**TOLD, value=value), False)
 
     def test_formulas_with_sixty_signs_however_deep(self):
         for value in (deep(["not"] * 59, "A"), deep(["some", "all", "and"] * 19, ("or", "A", "p"))):
@@ -121,6 +211,12 @@ class TestAnyValue(unittest.TestCase):
             before = copy.deepcopy(value)
             formulas.formula_error(3, 2, value)
             worlds.is_world(3, 2, value)
+            books.book_error(value)
+            books.book_error((2, 1, [value]))
+            books.keeps(BOOK, value)
+            telling.is_written(**TOLD, value=value)
+            telling.is_pair(**NOT_TOLD, value=value)
+            telling.is_pair(**NOT_TOLD, value=[value, value])
             self.assertEqual(value, before)
 
     def test_nothing_that_is_returned_changes_later(self):
@@ -140,6 +236,21 @@ class TestSomewhatBeyond(unittest.TestCase):
         self.assertIs(worlds.holds(world, ("all", "A")), False)
         self.assertEqual(worlds.frame_of(world), (("p",), ((), ("A",))))
         self.assertEqual(worlds.seen(world, ("p",)), (("p",), ((),) * 40))
+
+    def test_more_and_longer_rules(self):
+        rule = ("and", ("or", "q", ("not", "q")), *[("or", iff("p", ("some", "B")))] * 6)
+        book = (2, 2, (rule,) * 8)
+        self.assertEqual(books.book_error(book), (None, "rules"))
+        self.assertEqual(books.book_error((2, 2, book[2][:6])), (0, "signs"))
+        with soon():
+            self.assertEqual(books.frames(book), books.frames((2, 2, (iff("p", ("some", "B")),))))
+            self.assertIs(books.keeps(book, PAIR[0]), True)
+            self.assertIs(telling.told(book, "p", ("A", "B")), True)
+            self.assertIs(telling.is_written(book, "p", ("B",), telling.written(book, "p", ("B",))), True)
+            self.assertEqual(lots.least_tellers(book, "p"), (("B",),))
+            self.assertEqual(lots.reasons(book, "p", ("B",)), tuple((at,) for at in range(8)))
+            self.assertEqual(lots.fewest_dropped(book, "p", ("B",)), tuple(range(8)))
+            self.assertEqual(short.short(book, "p", ("B",)), ("some", "B"))
 
     def test_deeper_and_longer_formulas(self):
         formula = ("and", deep(["not"] * 300, "A"), *[("some", "B")] * 4000)

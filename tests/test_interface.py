@@ -20,6 +20,34 @@ FUNCTIONS = {
         "seen": ["world", "tellers"],
         "frame_of": ["world"],
     },
+    "books": {
+        "book_error": ["value"],
+        "keeps": ["book", "value"],
+        "frames": ["book"],
+        "follows": ["book", "sentence"],
+        "against": ["book", "sentence"],
+        "alike": ["book", "one", "other"],
+        "parting": ["book", "one", "other"],
+    },
+    "telling": {
+        "told": ["book", "word", "tellers"],
+        "written": ["book", "word", "tellers"],
+        "is_written": ["book", "word", "tellers", "value"],
+        "pair": ["book", "word", "tellers"],
+        "is_pair": ["book", "word", "tellers", "value"],
+    },
+    "lots": {
+        "least_tellers": ["book", "word"],
+        "least_lots": ["book"],
+        "loose": ["book"],
+        "free_words": ["book"],
+        "reasons": ["book", "word", "tellers"],
+        "fewest_dropped": ["book", "word", "tellers"],
+    },
+    "short": {
+        "fewest_signs": ["book", "word", "tellers"],
+        "short": ["book", "word", "tellers"],
+    },
 }
 
 CLASSES = {
