@@ -62,9 +62,14 @@ def words_in(formula):
 
 def replaced(formula, word, other):
     """A formula with another one in each place where word stands."""
+    return with_all_replaced(formula, {word: other})
+
+
+def with_all_replaced(formula, others):
+    """A formula with other ones in the places of some words, told by a dict, all at once."""
     return folded(
         formula,
-        lambda standing: other if standing == word else standing,
+        lambda standing: others.get(standing, standing),
         lambda head, parts: (head, *parts),
     )
 

@@ -117,6 +117,19 @@ def some_book(rng, kinds, letters, most=6):
     return (kinds, letters, tuple(rules))
 
 
+def layered_plan(rng, words, most):
+    """A plan without a ring and with formulas of at most so many signs, drawn by rng.
+
+    Each word hangs only on words that stand behind it in a shuffle.
+    """
+    order = rng.sample(words, len(words))
+    plan = []
+    for at, word in enumerate(order[:rng.randint(1, len(words))]):
+        made = some_sentence if word in LETTERS else some_formula
+        plan.append((word, made(rng, order[at + 1:], rng.randint(2, most))))
+    return tuple(rng.sample(plan, len(plan)))
+
+
 def all_frames(kinds, letters):
     """All frames of a vocabulary, in no order that matters."""
     sorts = sorted(sorts_of(kinds))

@@ -3,7 +3,9 @@
 import copy
 import unittest
 
-from tellwords import books, formulas, lots, short, telling, worlds
+from tellwords import (
+    books, counting, errors, formulas, lots, rings, shelves, short, telling, texts, worlds,
+)
 from tests.helpers import ODD_VALUES, deep, iff, soon
 
 W = (("p",), (("A",), (), ("A", "B")))
@@ -13,6 +15,7 @@ BOOK = (2, 1, (("all", ("or", ("not", "A"), "B")), iff("p", ("some", "B"))))
 PAIR = (("p",), (("A", "B"),)), (("p",), (("B",),))
 TOLD = {"book": BOOK, "word": "p", "tellers": ("A", "B")}
 NOT_TOLD = {"book": BOOK, "word": "A", "tellers": ("B", "p")}
+PLAN = (("p", ("some", "A")), ("A", ("not", "B")))
 
 # Each function with arguments by name and what it returns for them.
 CALLS = (
@@ -66,6 +69,39 @@ CALLS = (
     (short.fewest_signs, NOT_TOLD, None),
     (short.short, TOLD, ("some", "B")),
     (short.short, NOT_TOLD, None),
+    (counting.count_worlds, {"book": BOOK, "many": 2}, 9),
+    (counting.count_seen, {"book": BOOK, "tellers": ("A",), "many": 2}, 4),
+    (rings.plan_error, {"kinds": 2, "letters": 1, "value": PLAN}, None),
+    (rings.plan_error, {"kinds": 1, "letters": 1, "value": PLAN}, (1, "formula")),
+    (rings.ring, {"plan": PLAN}, None),
+    (rings.ring, {"plan": (("A", "B"), ("B", "A"))}, ("A", "B")),
+    (rings.unwound, {"plan": PLAN}, (("p", ("some", ("not", "B"))), ("A", ("not", "B")))),
+    (rings.book_of, {"kinds": 2, "letters": 1, "plan": PLAN},
+     (2, 1, (iff("p", ("some", "A")), iff("A", ("not", "B"))))),
+    (rings.put_away, {"book": (2, 1, ("p", ("some", "A"))), "word": "A", "other": ("not", "B")},
+     (2, 1, ("p", ("some", ("not", "B"))))),
+    (texts.formula_text, {"formula": ("some", "A")}, "[some A]"),
+    (texts.book_text, {"book": (1, 1, ("p", ("some", "A")))}, "1 1\np\n[some A]"),
+    (texts.read_formula, {"kinds": 1, "letters": 0, "value": "[some A]"}, ("some", "A")),
+    (texts.read_book, {"value": "1 1\np\n[some A]"}, (1, 1, ("p", ("some", "A")))),
+)
+
+# Each function that raises an error, with arguments by name, and what it raises.
+RAISING = (
+    (rings.unwound, {"plan": (("A", "B"), ("B", "A"))}, errors.Ringed, "ring", ("A", "B")),
+    (rings.unwound, {"plan": (("B", "A"), ("A", ("and", *["C"] * 2000)))}, errors.TooLong, "index", 0),
+    (rings.book_of, {"kinds": 2, "letters": 1, "plan": (("p", "p"), ("A", ("and", *["A"] * 16)))},
+     errors.TooLong, "index", 1),
+    (rings.put_away, {"book": (2, 1, ("p", ("some", "A"))), "word": "A", "other": ("and", *["B"] * 39)},
+     errors.TooLong, "index", 1),
+    (texts.read_formula, {"kinds": 1, "letters": 0, "value": None}, errors.BadText, "place", -1),
+    (texts.read_formula, {"kinds": 1, "letters": 0, "value": "[and B"}, errors.BadText, "place", 5),
+    (texts.read_formula, {"kinds": 1, "letters": 0, "value": "[and" + " A" * 40 + "]"}, errors.TooLong, "index", 0),
+    (texts.read_book, {"value": None}, errors.BadText, "place", -1),
+    (texts.read_book, {"value": "1 1\n"}, errors.BadText, "place", 0),
+    (shelves.Shelf, {"value": None}, errors.BadBook, "error", (None, "book")),
+    (shelves.FirmShelf, {"value": BOOK, "word": "C", "tellers": ()}, errors.NoWord, "value", "C"),
+    (shelves.FirmShelf, {"value": BOOK, "word": "A", "tellers": "B"}, errors.BadTellers, "value", "B"),
 )
 
 # Calls for which any fitting result is right.
@@ -151,6 +187,34 @@ class TestKindsOfValues(unittest.TestCase):
         self.assertEqual(formulas.words_of(3, 2), tuple(sorted("qpCBA")))
 
 
+class TestErrors(unittest.TestCase):
+    def test_by_position_and_by_name(self):
+        for function, arguments, error, attribute, expected in RAISING:
+            with self.subTest(function.__name__, arguments=arguments):
+                turned = dict(reversed(arguments.items()))
+                for call in (lambda: function(**arguments), lambda: function(*arguments.values()),
+                             lambda: function(**turned)):
+                    with self.assertRaises(error) as caught:
+                        call()
+                    self.assertIs(type(caught.exception), error)
+                    self.assertEqual(getattr(caught.exception, attribute), expected)
+                    self.assertIs(type(getattr(caught.exception, attribute)), type(expected))
+
+    def test_any_pair_of_worlds(self):
+        with self.assertRaises(errors.Loosened) as caught:
+            shelves.FirmShelf(**{"tellers": ("B", "p"), "word": "A", "value": BOOK})
+        self.assertIs(telling.is_pair(**NOT_TOLD, value=caught.exception.worlds), True)
+
+    def test_the_same_behind_calls_that_raise(self):
+        before = [function(**arguments) for function, arguments, _ in CALLS]
+        for function, arguments, error, _, _ in RAISING:
+            with self.assertRaises(error):
+                function(**arguments)
+            with self.assertRaises(error):
+                function(**copy.deepcopy(arguments))
+        self.assertEqual([function(**arguments) for function, arguments, _ in CALLS], before)
+
+
 class TestAnyValue(unittest.TestCase):
     def test_odd_and_large_values(self):
         for value in (*ODD_VALUES, *large_values()):
@@ -161,6 +225,34 @@ class TestAnyValue(unittest.TestCase):
                 self.assertIs(books.keeps(BOOK, value), False)
                 self.assertIs(telling.is_written(**TOLD, value=value), False)
                 self.assertIs(telling.is_pair(**NOT_TOLD, value=value), False)
+                self.assertEqual(rings.plan_error(3, 2, value) is None, value == ())
+                self.check_bad_text(value)
+                self.check_no_shelf(value)
+
+    def check_bad_text(self, value):
+        with self.assertRaises(errors.BadText) as caught:
+            texts.read_formula(3, 2, value)
+        self.assertIs(caught.exception.place == -1, not isinstance(value, str))
+        with self.assertRaises(errors.BadText) as caught:
+            texts.read_book(value)
+        self.assertEqual(caught.exception.place, 0 if isinstance(value, str) else -1)
+
+    def check_no_shelf(self, value):
+        with self.assertRaises(errors.BadBook) as caught:
+            shelves.Shelf(value)
+        self.assertEqual(caught.exception.error, books.book_error(value))
+        with self.assertRaises(errors.NoWord) as caught:
+            shelves.FirmShelf(BOOK, value, value)
+        self.assertIs(caught.exception.value, value)
+        shelf = shelves.Shelf(BOOK)
+        for call, error in ((lambda: shelf.add(value), errors.BadBook), (lambda: shelf.turn(0, value), errors.BadBook),
+                            (lambda: shelf.told(value, value), errors.NoWord)):
+            with self.assertRaises(error):
+                call()
+        self.assertEqual((shelf.book, shelf.version), (BOOK, 0))
+        self.assertIs(value in shelf, False)
+        self.assertIs(shelf == value, False)
+        self.assertIs(shelf != value, True)
 
     def test_odd_and_large_values_within_others(self):
         for value in (*ODD_VALUES, *large_values()):
@@ -173,6 +265,9 @@ class TestAnyValue(unittest.TestCase):
                 self.assertIs(telling.is_written(**TOLD, value=("or", ("some", "B"), value)), False)
                 self.assertIs(telling.is_pair(**NOT_TOLD, value=(PAIR[0], value)), False)
                 self.assertIs(telling.is_pair(**NOT_TOLD, value=(*PAIR, value)), False)
+                self.assertEqual(rings.plan_error(2, 1, (*PLAN, value))[0], 2)
+                self.assertEqual(rings.plan_error(2, 1, (*PLAN, ("B", value))), (2, "formula"))
+                self.assertEqual(rings.plan_error(2, 1, (*PLAN, (value, "A"))), (2, "word"))
 
     def test_books_and_formulas_with_sixty_signs_as_any_values(self):
         long = ("and", *["p"] * 59)
@@ -217,6 +312,11 @@ class TestAnyValue(unittest.TestCase):
             telling.is_written(**TOLD, value=value)
             telling.is_pair(**NOT_TOLD, value=value)
             telling.is_pair(**NOT_TOLD, value=[value, value])
+            rings.plan_error(2, 1, value)
+            rings.plan_error(2, 1, (("A", value), [value]))
+            if value != ():
+                self.check_bad_text(value)
+                self.check_no_shelf(value)
             self.assertEqual(value, before)
 
     def test_nothing_that_is_returned_changes_later(self):

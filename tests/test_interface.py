@@ -48,6 +48,23 @@ FUNCTIONS = {
         "fewest_signs": ["book", "word", "tellers"],
         "short": ["book", "word", "tellers"],
     },
+    "counting": {
+        "count_worlds": ["book", "many"],
+        "count_seen": ["book", "tellers", "many"],
+    },
+    "rings": {
+        "plan_error": ["kinds", "letters", "value"],
+        "ring": ["plan"],
+        "unwound": ["plan"],
+        "book_of": ["kinds", "letters", "plan"],
+        "put_away": ["book", "word", "other"],
+    },
+    "texts": {
+        "formula_text": ["formula"],
+        "book_text": ["book"],
+        "read_formula": ["kinds", "letters", "value"],
+        "read_book": ["value"],
+    },
 }
 
 CLASSES = {
@@ -65,7 +82,28 @@ CLASSES = {
         "Loosened": ["worlds"],
         "NoRule": ["index"],
     },
+    "shelves": {
+        "Shelf": ["value"],
+        "FirmShelf": ["value", "word", "tellers"],
+    },
 }
+
+# The methods of a shelf with their arguments, and what stands for len, [], in, == and for.
+METHODS = {
+    "add": ["value"],
+    "drop": ["value"],
+    "turn": ["index", "value"],
+    "undo": [],
+    "redo": [],
+    "told": ["word", "tellers"],
+    "written": ["word", "tellers"],
+    "pair": ["word", "tellers"],
+    "twin": [],
+}
+SIGNS = ("__len__", "__getitem__", "__contains__", "__eq__", "__iter__")
+
+BOUNDS = ("MAX_KINDS", "MAX_LETTERS", "MAX_SIGNS", "MAX_THINGS", "MAX_RULES", "MAX_SHORT", "MAX_COUNTED",
+          "MAX_UNWOUND", "MAX_EDITS")
 
 
 class TestInterface(unittest.TestCase):
@@ -95,6 +133,34 @@ class TestInterface(unittest.TestCase):
                     if arguments is not None:
                         parameters = list(inspect.signature(made.__dict__["__init__"]).parameters)
                         self.assertEqual(parameters[1:], arguments)
+
+    def test_methods_of_shelves(self):
+        shelves = importlib.import_module("tellwords.shelves")
+        for made in (shelves.Shelf, shelves.FirmShelf):
+            for name, arguments in METHODS.items():
+                with self.subTest(made.__name__, name=name):
+                    parameters = list(inspect.signature(getattr(made, name)).parameters)
+                    self.assertEqual(parameters[1:], arguments)
+
+    def test_defined_in_the_class_itself(self):
+        shelves = importlib.import_module("tellwords.shelves")
+        own = shelves.Shelf.__dict__
+        for name in (*METHODS, *SIGNS, "__init__"):
+            with self.subTest(name):
+                self.assertTrue(inspect.isfunction(own[name]))
+        for name in ("book", "version"):
+            self.assertIsInstance(own[name], property)
+        self.assertEqual(own["LIMIT"], 40)
+        for name in ("word", "tellers"):
+            self.assertIsInstance(shelves.FirmShelf.__dict__[name], property)
+        self.assertIn("__init__", shelves.FirmShelf.__dict__)
+        self.assertEqual(shelves.FirmShelf.__bases__, (shelves.Shelf,))
+        self.assertEqual(shelves.Shelf.__bases__, (object,))
+
+    def test_bounds(self):
+        bounds = importlib.import_module("tellwords.bounds")
+        for name in BOUNDS:
+            self.assertIs(type(getattr(bounds, name)), int)
 
 
 if __name__ == "__main__":

@@ -1,4 +1,4 @@
-"""Point 1, as far as points 3 to 8 bear it."""
+"""Point 1, as far as points 3 to 8 bear it; what the other points add is in test_guarantees."""
 
 import unittest
 
